@@ -1,0 +1,1 @@
+"""Meterbook: meters, what they tell, and what is owed."""
