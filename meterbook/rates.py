@@ -47,21 +47,47 @@ def slot_uses(sheet, marks, begin, end):
     return found
 
 
-def month_uses(sheet, marks, month):
-    """A tuple (slot, use, cost) for each slot of the month with a use, in order."""
-    size = sheet.month * len(sheet.bands)
-    begin = month * size
+def priced(sheet, begin, found):
+    """A tuple (slot, use, cost) for each use above 0 of a month's slots, which begin at begin."""
     number = 0
-    found = []
-    for place, use in enumerate(slot_uses(sheet, marks, begin, begin + size)):
+    told = []
+    for place, use in enumerate(found):
         if use > 0:
             slot = begin + place
-            found.append((slot, use, units_cost(sheet, slot, number, use)))
+            told.append((slot, use, units_cost(sheet, slot, number, use)))
             number = number + use
-    return found
+    return told
+
+
+def month_size(sheet):
+    """How many slots a month has."""
+    return sheet.month * len(sheet.bands)
+
+
+def month_uses(sheet, marks, month):
+    """A tuple (slot, use, cost) for each slot of the month with a use, in order."""
+    size = month_size(sheet)
+    begin = month * size
+    return priced(sheet, begin, slot_uses(sheet, marks, begin, begin + size))
+
+
+def with_standing(sheet, told):
+    """What a month costs whose uses are priced as told."""
+    return sum([cost for slot, use, cost in told]) + sheet.standing * sheet.month
 
 
 def month_cost(sheet, marks, month):
     """What all units of the month cost, and standing for each of its days."""
-    costs = [cost for slot, use, cost in month_uses(sheet, marks, month)]
-    return sum(costs) + sheet.standing * sheet.month
+    return with_standing(sheet, month_uses(sheet, marks, month))
+
+
+def month_costs(sheet, marks, end):
+    """The costs of the months from 0 to end - 1."""
+    size = month_size(sheet)
+    # One walk for all months, else each would weigh all days ahead of it again.
+    found = slot_uses(sheet, marks, 0, end * size)
+    costs = []
+    for month in range(end):
+        begin = month * size
+        costs.append(with_standing(sheet, priced(sheet, begin, found[begin:begin + size])))
+    return costs

@@ -1,5 +1,8 @@
 """Sheets: the kinds of days, their bands, and the slots of a day."""
 
+LAST_DAY = 400
+MOST_FIGURES = 9
+
 
 class Sheet:
     """What holds of a house: its days, bands, weights, prices and meters."""
@@ -22,6 +25,22 @@ def sheet_of(week, special, bands, weights, prices, steps, standing, month, figu
     return Sheet(week, special, bands, weights, prices, steps, standing, month, figures, rises)
 
 
+def sheet_like(sheet):
+    """A sheet with the same fields, in lists and dicts of its own."""
+    return sheet_of(
+        sheet.week,
+        sheet.special,
+        sheet.bands,
+        sheet.weights,
+        sheet.prices,
+        sheet.steps,
+        sheet.standing,
+        sheet.month,
+        sheet.figures,
+        sheet.rises,
+    )
+
+
 def kind_of(sheet, day):
     """The kind of a day: a special one, else its week day's."""
     if day in sheet.special:
@@ -31,8 +50,13 @@ def kind_of(sheet, day):
 
 def counters(sheet):
     """The counters, each once, in the order of their first bands."""
+    return band_counters(sheet.bands)
+
+
+def band_counters(bands):
+    """The counters that bands name, each once, in the order of their first bands."""
     found = []
-    for band, counter in sheet.bands:
+    for band, counter in bands:
         if counter not in found:
             found.append(counter)
     return found

@@ -3,6 +3,7 @@
 import copy
 import random
 
+from meterbook.rates import month_cost
 from meterbook.sheets import sheet_of
 
 HOUSE = {
@@ -156,3 +157,84 @@ def slow_month(sheet, marks, month):
             told.append((slot, use, cost))
             number += use
     return told
+
+
+def slow_marks(sheet, counter, log, known=None):
+    """A book's marks, from the deeds that were not refused, as tuples of a log."""
+    told = {}
+    for deed in log:
+        if deed[0] == "bill" or deed[2] != counter or (known is not None and deed[1] > known):
+            continue
+        if deed[0] == "wrong":
+            del told[deed[3]]
+        else:
+            told[deed[3]] = deed
+    marks = []
+    for day in sorted(told):
+        deed = told[day]
+        if deed[0] == "change":
+            marks.append((day, deed[4], deed[5], deed[6]))
+        else:
+            figures = marks[-1][3] if marks else sheet.figures[counter]
+            marks.append((day, deed[4], deed[4], figures))
+    return marks
+
+
+def slow_cost(sheet, log, month, known=None):
+    """A month's cost; month_cost itself is held against slow_month elsewhere, which takes too long here."""
+    marks = {counter: slow_marks(sheet, counter, log, known) for band, counter in sheet.bands}
+    return month_cost(sheet, marks, month)
+
+
+def slow_refusal(sheet, log, deed):
+    """The word of the first refusal that is due of a deed behind those of the log, or None."""
+    known = deed[1]
+    billed = [former[1] for former in log if former[0] == "bill"]
+    if deed[0] == "bill":
+        if any(known < former[1] for former in log):
+            return "late"
+        return "early" if known < (len(billed) + 1) * sheet.month else None
+    if any(known < former[1] for former in log) or any(known <= day for day in billed):
+        return "late"
+    counter, day = deed[2], deed[3]
+    if counter not in [owner for band, owner in sheet.bands]:
+        return "counter"
+    if deed[0] == "wrong":
+        return None if day in [mark[0] for mark in slow_marks(sheet, counter, log)] else "mark"
+    values = deed[4:6]
+    if not all(0 <= value < 10 ** 9 for value in values) or not 0 <= day <= 400:
+        return "value"
+    if deed[0] == "change" and not 1 <= deed[6] <= 9:
+        return "value"
+    marks = slow_marks(sheet, counter, log + [deed])
+    for former, latter in zip(marks, marks[1:]):
+        if (latter[1] - former[2]) % 10 ** former[3] > sheet.rises[counter] * (latter[0] - former[0]):
+            return "fast"
+    return None
+
+
+def some_deed(chance, sheet, known):
+    """A deed that is often done, and now and then refused."""
+    owners = sorted({counter for band, counter in sheet.bands})
+    counter = chance.choice(owners) if chance.random() < 0.95 else "nobody"
+    day = chance.randint(0, 40) if chance.random() < 0.95 else chance.choice([400, 401])
+    what = chance.random()
+    if what < 0.5:
+        value = chance.randint(0, 400) if chance.random() < 0.95 else 10 ** 9
+        return ("tell", known, counter, day, value)
+    if what < 0.65:
+        ended, begun = chance.randint(0, 400), chance.randint(0, 400)
+        return ("change", known, counter, day, ended, begun, chance.randint(0, 5))
+    if what < 0.8:
+        return ("wrong", known, counter, day)
+    return ("bill", known)
+
+
+def some_log(chance, sheet, count=30):
+    """Deeds on days that mostly rise."""
+    known = 0
+    log = []
+    for place in range(count):
+        known = max(0, known + chance.choice([-1, 0, 0, 1, 1, 2, sheet.month]))
+        log.append(some_deed(chance, sheet, known))
+    return log

@@ -36,6 +36,17 @@ EXPRESSIONS = (
 )
 
 
+WALKS = set("zip enumerate reversed range".split())
+WALK_METHODS = set("items keys values".split())
+WALKERS = set("list tuple dict sorted sum any all enumerate zip min max".split())
+KEYWORDS = {"sorted": {"key", "reverse"}, "min": {"key", "default"}, "max": {"key", "default"}, "sum": {"start"},
+            "enumerate": {"start"}, "zip": {"strict"}}
+HANDLED = set("KeyError ZeroDivisionError StopIteration".split())
+NO_VALUES = set(
+    "items keys values pop update append clear extend insert remove reverse setdefault sort args encode format".split()
+)
+
+
 def package_files():
     return sorted(path for path in PACKAGE.rglob("*") if path.is_file() and "__pycache__" not in path.parts)
 
@@ -67,6 +78,26 @@ def local_names(tree):
                     found.add(node.arg)
                 elif isinstance(node, ast.Name) and isinstance(node.ctx, ast.Store):
                     found.add(node.id)
+    return found
+
+
+def object_values(trees):
+    """Every name that is given a value on an object."""
+    return {
+        node.attr
+        for tree in trees
+        for node in ast.walk(tree) if isinstance(node, ast.Attribute) and isinstance(node.ctx, ast.Store)
+    }
+
+
+def walked_at_once(tree):
+    """The calls that stand where a walk may stand."""
+    found = []
+    for node in ast.walk(tree):
+        if isinstance(node, (ast.For, ast.comprehension)):
+            found.append(node.iter)
+        elif isinstance(node, ast.Call) and isinstance(node.func, ast.Name) and node.func.id in WALKERS and node.args:
+            found.append(node.args[0])
     return found
 
 
@@ -214,3 +245,57 @@ class LanguageTest(unittest.TestCase):
                 self.assertIn(node.func.attr, known, where)
         for where, node in self.nodes(ast.Attribute):
             self.assertNotIn(node.attr, UNUSED, where)
+
+    def test_top_values_are_plain(self):
+        for path, tree in self.trees.items():
+            for node in tree.body:
+                if isinstance(node, ast.Assign):
+                    value = ast.literal_eval(node.value)
+                    self.assertIn(type(value), (int, str, bool, type(None), tuple), f"{path.name}:{node.lineno}")
+
+    def test_methods_and_values_are_apart(self):
+        values = object_values(self.trees.values())
+        self.assertEqual(values & own_methods(self.trees.values()), set())
+        self.assertEqual(values & NO_VALUES, set())
+
+    def test_errors_taken_and_raised(self):
+        errors = {node.name for node in self.trees[PACKAGE / "errors.py"].body if isinstance(node, ast.ClassDef)}
+        for where, node in self.nodes(ast.ExceptHandler):
+            self.assertIsInstance(node.type, ast.Name, where)
+            self.assertIn(node.type.id, errors | HANDLED, where)
+        for where, node in self.nodes(ast.Raise):
+            self.assertIsInstance(node.exc, ast.Call, where)
+            self.assertIn(node.exc.func.id, errors, where)
+
+    def test_walked_at_once(self):
+        for path, tree in self.trees.items():
+            allowed = walked_at_once(tree)
+            for node in ast.walk(tree):
+                if isinstance(node, ast.Call):
+                    name = getattr(node.func, "id", None)
+                    method = getattr(node.func, "attr", None)
+                    if name in WALKS or method in WALK_METHODS:
+                        self.assertIn(node, allowed, f"{path.name}:{node.lineno}")
+
+    def test_python_s_own_are_called_and_methods_too(self):
+        for path, tree in self.trees.items():
+            called = [node.func for node in ast.walk(tree) if isinstance(node, ast.Call)]
+            bases = [base for node in ast.walk(tree) if isinstance(node, ast.ClassDef) for base in node.bases]
+            for node in ast.walk(tree):
+                if isinstance(node, ast.Name) and node.id in OWN_NAMES:
+                    self.assertIn(node, called + bases, f"{path.name}:{node.lineno}")
+                if isinstance(node, ast.Attribute) and node.attr in METHODS | own_methods([tree]):
+                    self.assertIn(node, called, f"{path.name}:{node.lineno}")
+
+    def test_keywords(self):
+        for where, node in self.nodes(ast.Call):
+            for keyword in node.keywords:
+                self.assertIn(keyword.arg, KEYWORDS.get(getattr(node.func, "id", None), set()), where)
+
+    def test_no_sets_and_no_annotations(self):
+        for where, node in self.nodes(ast.Set):
+            self.fail(where)
+        for where, node in self.nodes(ast.Name):
+            self.assertNotIn(node.id, ("set", "frozenset"), where)
+        for where, node in self.nodes(ast.arg):
+            self.assertIsNone(node.annotation, where)
